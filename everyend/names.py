@@ -30,3 +30,8 @@ def is_tuple_of_unlike_names(most, thing):
 def is_dict_of_names(thing):
     """Whether this is a dict from names to names."""
     return isinstance(thing, dict) and are_names(thing) and are_names(list(thing.values()))
+
+
+def is_integer_from(low, thing):
+    """Whether this is an integer, and no flag, from low on."""
+    return isinstance(thing, int) and not isinstance(thing, bool) and low <= thing

@@ -29,6 +29,14 @@ class Run:
         """The points of the frames, the lowest one first."""
         return tuple(self._points)
 
+    def top(self):
+        """The point of the top frame, None if the run has ended."""
+        return self._points[-1] if self._points else None
+
+    def height(self):
+        """How many frames there are."""
+        return len(self._points)
+
     def asks(self):
         """The words of the ask at which the run stands, None if it stands at none."""
         if self.end is not None:

@@ -80,7 +80,10 @@ class Language(unittest.TestCase):
             edges[name] = set()
             for node in ast.walk(tree):
                 self.assertNotIsInstance(node, ast.Import)
-                if isinstance(node, ast.ImportFrom):
+                if isinstance(node, ast.ImportFrom) and node.module == "heapq":
+                    self.assertLessEqual({alias.name for alias in node.names}, {"heappush", "heappop"})
+                    self.assertEqual([alias.asname for alias in node.names], [None] * len(node.names))
+                elif isinstance(node, ast.ImportFrom):
                     package, _, module = node.module.partition(".")
                     self.assertEqual((package, node.level), ("everyend", 0))
                     bound = {one for inner in TREES[module].body for one in named(inner)
