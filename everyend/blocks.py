@@ -5,7 +5,7 @@ classes and the functions of the program.
 """
 
 from everyend.names import is_integer_between, is_name, is_tuple_of_unlike_names
-from everyend.shapes import BLOCKS, blocks_of, shape_of
+from everyend.shapes import BLOCKS, shape_of, statements_of
 
 MOST_DEEP = 6
 MOST_STATEMENTS = 12
@@ -43,10 +43,7 @@ def is_part(known, deep, kind, thing):
 
 def has_return(block):
     """Whether a return stands anywhere in a right block."""
-    for statement in block:
-        if statement[0] == "return" or any([has_return(inner) for inner in blocks_of(statement)]):
-            return True
-    return False
+    return any([statement[0] == "return" for statement in statements_of(block)])
 
 
 def is_any_name(known, thing):
@@ -112,6 +109,7 @@ def is_kind(known, thing):
 
 CHECKS = {
     "name": is_any_name,
+    "local": is_any_name,
     "shared": is_shared_name,
     "class": is_class_name,
     "function": is_function_name,

@@ -18,19 +18,27 @@ class Goals:
     """All goals of a survey.
 
     numbers: for each node a dict from the numbers of its ends to its goals;
-    ways: for each goal the list of its ways; at_point: for each goal whether
-    its node is a point.
+    ways: for each goal the list of its ways; at_point, at_call: for each goal
+    whether its node is a point, and whether it is a call.
     """
 
     def __init__(self, survey):
         self.numbers = []
         self.ways = []
         self.at_point = []
+        self.at_call = []
         self._errors = survey.errors
         for node in survey.nodes:
             self._number(node)
         for node in survey.nodes:
             self._find_ways(node)
+
+    def called_by(self, goal, way):
+        """How many of the goals that a way of a goal leaves, the first ones, are met by a called frame."""
+        if not self.at_point[goal]:
+            return 1
+        # From a call a way leads to a joint, or to what is called, with the errors of which the frame ends, too.
+        return 1 if self.at_call[goal] and self.at_point[way[3][0]] else 0
 
     def _number(self, node):
         """Give numbers to the goals of a node."""
@@ -39,6 +47,7 @@ class Goals:
         self.numbers.append({end: first + at for at, end in enumerate(ends)})
         self.ways.extend([[] for _ in ends])
         self.at_point.extend([node.kind != "joint" for _ in ends])
+        self.at_call.extend([node.kind == "call" for _ in ends])
 
     def _find_ways(self, node):
         """Find the ways to all goals of a node."""

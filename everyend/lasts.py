@@ -1,6 +1,6 @@
 """Statements last written out as statements try."""
 
-from everyend.shapes import BLOCKS, blocks_of, parts_of
+from everyend.shapes import BLOCKS, parts_of, statements_of
 
 SECOND_LETTERS = "abcdefghijklmnopqrstuvwxyz"
 
@@ -18,11 +18,7 @@ def plain_functions(functions):
 
 def count_lasts(block):
     """How many statements last stand in a block, those in its inner blocks too."""
-    many = 0
-    for statement in block:
-        many += 1 if statement[0] == "last" else 0
-        many += sum([count_lasts(inner) for inner in blocks_of(statement)])
-    return many
+    return len([statement for statement in statements_of(block) if statement[0] == "last"])
 
 
 def free_names(thing):

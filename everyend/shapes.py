@@ -1,28 +1,32 @@
-"""The forms of the statements: what must stand behind the first word, in its order."""
+"""The forms of the statements: what must stand behind the first word, in its order.
+
+The name of a local that a statement sets is a "local"; other names that are
+free, of fields and methods, are a "name".
+"""
 
 # A bare block is one without a return anywhere in it.
 BLOCKS = ("block", "bare")
 
 SHAPES = {
-    "set": ("name", "expression"),
+    "set": ("local", "expression"),
     "share": ("shared", "expression"),
     "pay": ("price",),
-    "ask": ("name", "words"),
+    "ask": ("local", "words"),
     "if": ("test", "block", "block"),
     "loop": ("test", "block"),
     "return": ("expression",),
     "raise": ("expression",),
-    "try": ("block", "name", "block"),
+    "try": ("block", "local", "block"),
     "last": ("bare", "block"),
-    "call": ("name", "function", "expressions"),
-    "apply": ("name", "expression", "expressions"),
-    "send": ("name", "expression", "name", "expressions"),
-    "new": ("name", "class", "expressions"),
-    "keep": ("name", "function", "expressions"),
-    "get": ("name", "expression", "name"),
-    "with": ("name", "expression", "name", "expression"),
-    "push": ("name", "expression", "expression"),
-    "pop": ("name", "expression"),
+    "call": ("local", "function", "expressions"),
+    "apply": ("local", "expression", "expressions"),
+    "send": ("local", "expression", "name", "expressions"),
+    "new": ("local", "class", "expressions"),
+    "keep": ("local", "function", "expressions"),
+    "get": ("local", "expression", "name"),
+    "with": ("local", "expression", "name", "expression"),
+    "push": ("local", "expression", "expression"),
+    "pop": ("local", "expression"),
 }
 
 
@@ -41,12 +45,19 @@ def blocks_of(statement):
     return [part for kind, part in parts_of(statement) if kind in BLOCKS]
 
 
+def statements_of(block):
+    """All statements of a right block, each ahead of those in its inner blocks."""
+    found = []
+    for statement in block:
+        found.append(statement)
+        for inner in blocks_of(statement):
+            found.extend(statements_of(inner))
+    return found
+
+
 def size_of(block):
     """How many statements stand in a block, those in its inner blocks too."""
-    many = len(block)
-    for statement in block:
-        many += sum([size_of(inner) for inner in blocks_of(statement)])
-    return many
+    return len(statements_of(block))
 
 
 def nots_and_core(test):

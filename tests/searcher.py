@@ -170,3 +170,27 @@ def answers_of(program, call, walk):
             answers.append(words[way])
         run.step(words[way] if words else None)
     return tuple(answers)
+
+
+def within(program, call, frames, most=1500):
+    """Of all runs while they have at most so many frames: for each end the fewest steps, and the greatest number of
+    frames that is met, a call too many counted; None if they meet too many states."""
+    start = (entry(program, call),)
+    fewest, highest, row, met = {}, 1, [start], {start}
+    for steps in range(most):
+        later = []
+        for state in row:
+            for _, other in ahead(program, state):
+                if has_ended(other):
+                    fewest.setdefault(other, steps + 1)
+                    continue
+                highest = max(highest, len(other))
+                if len(other) <= frames and other not in met:
+                    met.add(other)
+                    later.append(other)
+        row = later
+        if len(met) > most:
+            return None
+        if not row:
+            return fewest, highest
+    return None
