@@ -12,7 +12,7 @@ from everyend.scripts import Script
 def depth(program, call, end):
     """The least depth of all runs of a call to an end."""
     layers, _ = layers_to(program, call, end)
-    return layers.frames
+    return layers.deep
 
 
 def shallow(program, call, end):

@@ -8,14 +8,14 @@ from everyend.goals import STEPS
 class Layers:
     """What can be met with at most so many frames: layer by layer, each of which lets one frame more.
 
-    frames: how many; met: for each goal None, or a pair (steps, number) of the
+    deep: how many frames; met: for each goal None, or a pair (steps, number) of the
     fewest steps and of the number of a way in chosen by which they suffice;
     chosen: a list of ways as scripts take them, which leave numbers of further
     chosen ways for goals.
     """
 
     def __init__(self, goals):
-        self.frames = 0
+        self.deep = 0
         self.met = [None] * len(goals.ways)
         self.chosen = []
         # What was met with one frame less: so much is let to a frame that is called.
@@ -32,7 +32,7 @@ class Layers:
 
     def grow(self):
         """Let one frame more."""
-        self.frames += 1
+        self.deep += 1
         changed = []
         # No way is without steps: what is taken off the heap first is the least of its goal in this layer.
         while self._heap:
@@ -50,7 +50,7 @@ class Layers:
         """Note the ways of a goal, and which goals they leave."""
         row = []
         for at, way in enumerate(goals.ways[goal]):
-            many = goals.called_by(goal, way) if way[3] else 0
+            many = goals.called_by(goal, way)
             row.append((way, way[3][:many], way[3][many:]))
             for other in way[3][:many]:
                 self._callers[other].append((goal, at))

@@ -2,7 +2,7 @@
 
 from everyend.edits import uses, with_function
 from everyend.errors import BadName, BadNames, BadWords, NoName
-from everyend.names import is_dict_of_names, is_name, is_tuple_of_names
+from everyend.names import is_dict_of_names, is_tuple_of_names
 from everyend.points import is_function
 from everyend.programs import Program
 from everyend.renames import local_names, renamed_function
@@ -59,8 +59,8 @@ def caught(program, function, name):
 
 
 def with_further(program, name, function):
-    """The program with a function under a name that none has yet."""
-    if not is_name(name) or is_function(program, name):
+    """The program with a function under a name that none has yet; what is no name is told of where it is put in."""
+    if is_function(program, name):
         raise BadName()
     return with_function(program, name, function)
 

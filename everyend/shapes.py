@@ -29,10 +29,23 @@ SHAPES = {
     "pop": ("local", "expression"),
 }
 
+# In texts: the first word of the line behind the first block, where a second one may stand.
+SECOND_WORDS = {"if": "else", "try": "catch", "last": "after"}
+
 
 def shape_of(word):
     """The kinds of the parts behind this first word, None if no statement begins with it."""
     return SHAPES.get(word)
+
+
+def head_of(shape):
+    """The kinds of the parts that stand ahead of the first block, in the line of a statement in texts."""
+    head = []
+    for kind in shape:
+        if kind in BLOCKS:
+            break
+        head.append(kind)
+    return tuple(head)
 
 
 def parts_of(statement):

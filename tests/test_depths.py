@@ -121,6 +121,14 @@ class Depths(unittest.TestCase):
         self.told(forced, ("error", "n", ()), 2, 6)
         self.assertEqual(deepest(forced, CALL), 5)
 
+    def test_calls_that_come_back_in_several_ways(self):
+        """What is shorter behind the call is longer in it, and in all."""
+        for inner, behind, answer, steps in ((6, 3, "b", 9), (1, 5, "a", 8), (2, 3, "b", 9), (1, 3, "a", 8)):
+            program = one(("call", "x", "g", ()), ("if", SAME, (("pay", 0),), (("pay", 0),) * behind), others={
+                "g": ((), 1, (ASK, ("if", SAME, (("pay", 0),) * inner, ()), ("return", "x")))})
+            self.told(program, NONE, 2, steps)
+            self.assertEqual(shallow(program, CALL, NONE), (answer,))
+
     def test_lasts(self):
         program = one(("last", (ASK, ("call", "y", "g", ("x",))), (("call", "y", "cb", ()),)), others={
             "g": (("n",), 1, (("if", ("same", "n", ("a",)), (("raise", "n"),), ()),)), **chained(3, ())})

@@ -3,6 +3,10 @@
 import time
 import unittest
 
+from everyend.alike import parting
+from everyend.depths import deepest, depth, shallow
+from everyend.desk import Desk
+from everyend.edits import lasting
 from everyend.errors import Grows
 from everyend.exploring import can_come, ends, reached
 from everyend.goingon import always_ends, going_on, is_going_on, longest
@@ -12,6 +16,7 @@ from everyend.pricejudge import is_price_table
 from everyend.prices import greatest, least, price_table
 from everyend.ranktables import is_rank_table, rank_table
 from everyend.runs import ran
+from everyend.texts import program_text
 from tests.samples import one
 from tests.test_exploring import CALL, WORDS
 
@@ -44,6 +49,8 @@ class Large(unittest.TestCase):
             told, price, steps = ran(program, CALL, self.timed(cheapest, program, CALL, end))
             self.assertEqual((told, price), (end, low))
             self.assertEqual(self.timed(fewest_steps, program, CALL, end), steps)
+            self.assertEqual(self.timed(depth, program, CALL, end), 2)
+            self.assertEqual(ran(program, CALL, self.timed(shallow, program, CALL, end)), (told, price, steps))
             paper = self.timed(growing, program, CALL, end)
             if high is None:
                 self.assertRaises(Grows, self.timed, dearest, program, CALL, end)
@@ -53,11 +60,19 @@ class Large(unittest.TestCase):
                 answers = self.timed(dearest, program, CALL, end)
                 self.assertEqual(ran(program, CALL, answers)[:2], (end, high))
         self.assertIs(self.timed(always_ends, program, CALL), high is not None)
+        self.assertIsNone(self.timed(parting, program, "f", program, "f", [()]))
+        rest = self.timed(lasting, program, CALL, table, "f")
+        self.assertEqual({point[0] for point in rest}, {"g"})
+        desk = Desk()
+        desk.tell("program p " + program_text(program).replace("\n", "|"))
+        told = self.timed(desk.tell, "ends p f").split(" | ")
+        self.assertEqual((len(told), {part.rpartition(" (")[2] for part in told}), (81, {f"{low} {high or '-'})"}))
 
     def test_calls_one_behind_the_other(self):
         program = one(*(("call", "x", "g", ()),) * 3, ("return", "x"), classes=WIDE, others={"g": MANY})
         self.check(program, 13851, 6, 6)
         self.assertEqual(self.timed(longest, program, CALL), 3 * 8 + 1)
+        self.assertEqual(self.timed(deepest, program, CALL), 2)
         self.assertIsNone(self.timed(going_on, program, CALL))
         table = self.timed(rank_table, program, CALL)
         self.assertIs(self.timed(is_rank_table, program, CALL, table), True)
@@ -68,6 +83,7 @@ class Large(unittest.TestCase):
                       classes=WIDE, others={"g": MANY})
         self.check(program, 20574, 2, None)
         self.assertIsNone(self.timed(longest, program, CALL))
+        self.assertIsNone(self.timed(deepest, program, CALL))
         self.assertIsNone(self.timed(rank_table, program, CALL))
         self.assertIs(self.timed(is_going_on, program, CALL, self.timed(going_on, program, CALL)), True)
 
