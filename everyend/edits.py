@@ -33,12 +33,16 @@ def named_in_block(shared, block):
     """Pairs (kind, name) of what a block names: of functions, of classes and of the shared names."""
     named = []
     for statement in statements_of(block):
+        names = list(expressions_of(statement))
         for kind, part in parts_of(statement):
-            if kind in ("function", "class", "shared"):
+            if kind in ("function", "class"):
                 named.append((kind, part))
+            elif kind in ("local", "shared"):
+                names.append(part)
             elif kind == "test":
                 named.extend(named_in_test(part))
-        named.extend([("shared", part) for part in expressions_of(statement) if part in shared])
+        # Also a local stands for the shared name that it hides.
+        named.extend([("shared", name) for name in names if name in shared])
     return named
 
 

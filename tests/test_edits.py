@@ -34,12 +34,12 @@ class Uses(unittest.TestCase):
             self.assertEqual(uses(program, "f"), (tuple(functions), tuple(classes), tuple(shared)))
 
     def test_functions(self):
-        self.told(("call", "s", "g", ()), functions=("g",))
-        self.told(("keep", "u", "h", ()), functions=("h",))
+        self.told(("call", "x", "g", ()), functions=("g",))
+        self.told(("keep", "x", "h", ()), functions=("h",))
         self.told(("call", "f", "f", ()), functions=("f",))
 
     def test_classes(self):
-        self.told(("new", "s", "c", ()), classes=("c",))
+        self.told(("new", "x", "c", ()), classes=("c",))
         self.told(("new", "c", "d", (("s",),)), functions=("g",), classes=("c", "d"))
         for nots in range(4):
             for kind, classes in (("c", ("c",)), ("word", ()), ("row", ()), ("kept", ())):
@@ -52,6 +52,16 @@ class Uses(unittest.TestCase):
     def test_shared_names_that_are_set(self):
         self.told(("share", "s", ("u",)), shared=("s",))
         self.told(("share", "u", "s"), shared=("s", "u"))
+
+    def test_names_of_locals_that_statements_set(self):
+        """Each x of a statement counts, also where it is a local that hides the shared name."""
+        for statement in (("set", "s", ("u",)), ("ask", "s", ("u", "w")), ("get", "s", "x", "u"), ("push", "s", "x", "x"),
+                          ("with", "s", "x", "u", ("u",)), ("send", "s", "x", "u", ()), ("apply", "s", "x", ()),
+                          ("pop", "s", "x"), ("try", (), "s", ())):
+            self.told(statement, shared=("s",))
+        self.told(("call", "s", "g", ()), functions=("g",), shared=("s",))
+        self.told(("keep", "u", "h", ()), functions=("h",), shared=("u",))
+        self.told(("new", "s", "c", ("u",)), classes=("c",), shared=("s", "u"))
 
     def test_shared_names_as_expressions(self):
         for statement in (("set", "x", "s"), ("return", "s"), ("raise", "s"), ("pop", "x", "s"), ("push", "x", "s", "x"),
@@ -66,8 +76,8 @@ class Uses(unittest.TestCase):
         self.told(("new", "x", "c", ("s",)), classes=("c",), shared=("s",))
 
     def test_what_is_no_such_name(self):
-        for statement in (("set", "s", ("s",)), ("ask", "s", ("s", "u")), ("pay", 1), ("get", "s", "x", "s"),
-                          ("with", "s", "x", "u", ("s",)), ("send", "u", "x", "s", ()), ("try", (), "s", ()),
+        for statement in (("set", "x", ("s",)), ("ask", "x", ("s", "u")), ("pay", 1), ("get", "x", "x", "s"),
+                          ("with", "x", "x", "u", ("s",)), ("send", "x", "x", "s", ()), ("raise", ("s",)),
                           ("if", ("same", ("s",), ("g",)), (), ()), ("raise", "g"), ("raise", "c"), ("set", "c", "g")):
             self.told(statement)
 

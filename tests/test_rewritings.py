@@ -321,9 +321,11 @@ class Only(unittest.TestCase):
                                            {name: functions[name] for name in ("f", "look", "swap")}))
 
     def test_shared_names(self):
-        shared = {"s": "a", "u": "b", "v": "c"}
-        told = only(one(("set", "u", "s"), ("share", "v", ("w",)), shared=shared), "f")
-        self.assertEqual(told.shared, {"s": "a", "v": "c"})
+        shared = {"s": "a", "u": "b", "v": "c", "w": "d"}
+        for statements, names in (((("set", "x", "s"),), "s"), ((("share", "v", ("w",)),), "v"), ((("set", "u", "x"),), "u"),
+                                  ((("set", "x", "s"), ("share", "v", ("w",))), "sv"), ((("raise", ("s",)),), "")):
+            told = only(one(*statements, shared=shared, parameters=("w",)), "f")
+            self.assertEqual(told.shared, {name: shared[name] for name in names})
 
     def test_parts_of_it_are_those_that_are_used(self):
         for seed in range(300):
